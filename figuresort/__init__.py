@@ -1,0 +1,1 @@
+"""Figuresort: rows put in order by their figures."""
