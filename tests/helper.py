@@ -1,10 +1,12 @@
 """What several test files need."""
 
 import copy
+import itertools
 
 from figuresort.spelling import spelled
 
 BASES = (2, 3, 5, 7, 10, 12, 16, 27, 31, 36, 60, 63, 64)
+TWENTY_ONE = 10 ** 21 - 1
 
 
 def spread(many, below, start=1):
@@ -70,6 +72,19 @@ def check_answer_is_own(test, ask, *handed):
     test.assertEqual(frozen(ask(*handed)), told)
     spoil(handed)
     test.assertEqual(frozen(second), told)
+
+
+def check_asks_are_own(test, thing, *names):
+    """What an object is asked by these methods is told again the same, in lists of the asker's own."""
+    first = [getattr(thing, name)() for name in names]
+    told = frozen(first)
+    second = [getattr(thing, name)() for name in names]
+    test.assertEqual(frozen(second), told)
+    every_list = lists_in(first) + lists_in(second)
+    test.assertEqual(len({id(found) for found in every_list}), len(every_list))
+    spoil(first)
+    test.assertEqual(frozen(second), told)
+    test.assertEqual(frozen([getattr(thing, name)() for name in names]), told)
 
 
 def check_list_as_tuple(test, ask, *handed):
@@ -146,3 +161,43 @@ class Figure(int):
 def shy_rows(rows):
     """The same rows, of figures that may be counted, but not compared by size."""
     return [tuple(Figure(figure) for figure in row) for row in rows]
+
+
+def scattered_order(many, start=1):
+    """An order of so many things, the same in each run."""
+    return [at for _, at in sorted((key, at) for at, key in enumerate(spread(many, 10 ** 6, start)))]
+
+
+def all_orders(most):
+    return [list(order) for many in range(most + 1) for order in itertools.permutations(range(many))]
+
+
+def long_orders():
+    told = [scattered_order(many, start) for many in (7, 30, 120, 199, 200) for start in (1, 2)]
+    told += [list(range(200)), list(range(200))[::-1], list(range(1, 200)) + [0], [199] + list(range(199))]
+    told += [[at ^ 1 for at in range(200)], [0, 1, 2] + list(range(199, 2, -1))]
+    return told
+
+
+def order_samples():
+    """Orders: all of few things, and some of up to 200."""
+    return all_orders(5) + long_orders()
+
+
+NO_ORDERS = (
+    None, True, False, 0, 1, -1, 5, TWENTY_ONE, "", "0", "01", "order",
+    [1], [-1], [2, 0], [0, 0], [1, 1], [0, 2], [1, 2], [0, -1], [-1, 0], [-2, -1], [0, 1, 1], [0, 1, 3], [3, 1, 2],
+    [0, 1, 2, 3, 3], [1, 2, 3, 4, 5], [TWENTY_ONE], [0, TWENTY_ONE], [-TWENTY_ONE, 0], [2 ** 64, 0], [0, 2 ** 64 + 1],
+    [False], [True], [True, 0], [0, True], [False, 1], [1, False], [False, True], [True, False], [0, 1, True],
+    [None], [0, None], [None, 0], ["0"], [0, "1"], ["", ""], ["a"], [0, ""], [[]], [[0]], [0, [1]], [[0], [1]],
+    [()], [(0,)], [0, (1,)], [[0, 1]], [[], 0], [0, 1, []], [[[[]]]], [[1, 0], [0, 1]], list("01"),
+    list(range(1, 201)), list(range(199)) + [198], list(range(199)) + [200], list(range(199)) + [True], [0] * 200,
+    list(range(200)) + [None], list(range(-1, 199)), list(range(0, -200, -1)),
+)
+
+
+def deep_thing(kind, levels):
+    thing = kind()
+    for _ in range(levels):
+        thing = kind([thing])
+    return thing

@@ -37,6 +37,17 @@ compile copyright credits delattr dir eval exec exit gc getattr globals hasattr 
 methodcaller os quit setattr super vars sys chr print
 """.split())
 
+OWN_METHODS = set("""
+append clear copy count endswith extend find get index insert isalnum isalpha isdigit islower isspace isupper items
+join keys ljust lower lstrip partition pop remove replace reverse rfind rjust rpartition rsplit rstrip setdefault split
+splitlines startswith strip update upper values zfill bit_length title capitalize swapcase casefold center expandtabs
+removeprefix removesuffix rindex isascii isdecimal isnumeric istitle isidentifier isprintable
+""".split())
+
+FREE_VALUES = {"count", "index", "title", "find", "get", "join", "lower", "upper", "split", "strip", "copy", "add"}
+
+PYTHONS_VALUES = {name for kind in (str, int, list, tuple, dict, set, bytes) for name in dir(kind)} | {"args"}
+
 
 def package_files():
     folder = os.path.join(TOP, PACKAGE)
@@ -69,6 +80,13 @@ def bound_names(node):
     if isinstance(node, ast.alias):
         return [node.asname or node.name]
     return []
+
+
+def methods_and_values():
+    """The names of all methods of the package's classes, and of all values that objects are given."""
+    methods = {row.name for _, node in nodes(ast.ClassDef) for row in node.body if isinstance(row, ast.FunctionDef)}
+    given = {node.attr for _, node in nodes(ast.Attribute) if isinstance(node.ctx, ast.Store)}
+    return (methods - DEEP_METHODS, given)
 
 
 class Files(unittest.TestCase):
@@ -140,6 +158,37 @@ class Forms(unittest.TestCase):
             self.assertEqual(len(node.body), len({getattr(row, "name", "") for row in node.body}))
             for row in node.body:
                 self.assertIsInstance(row, (ast.FunctionDef, ast.Expr), (name, node.name))
+
+    def test_methods_and_values_are_two_kinds_of_names(self):
+        methods, given = methods_and_values()
+        self.assertEqual(methods & given, set())
+        self.assertEqual(given & PYTHONS_VALUES - FREE_VALUES, set())
+        self.assertEqual(methods & PYTHONS_VALUES - OWN_METHODS - {"add", "discard"}, set())
+
+    def test_methods_that_are_called_and_values_that_are_asked(self):
+        methods, given = methods_and_values()
+        every = nodes((ast.Call, ast.Attribute))
+        called = {id(node.func) for _, node in every if isinstance(node, ast.Call)}
+        for name, node in every:
+            if isinstance(node, ast.Call):
+                continue
+            if id(node) in called:
+                self.assertIn(node.attr, methods | OWN_METHODS | DEEP_METHODS, (name, node.lineno))
+            elif isinstance(node.ctx, ast.Load):
+                self.assertIn(node.attr, given, (name, node.lineno))
+
+    def test_lists_and_dicts_of_a_files_top_hold_none_and_are_only_read(self):
+        for name, tree in trees():
+            tops = [row for row in tree.body if isinstance(row, ast.Assign)]
+            kept = {row.targets[0].id for row in tops if isinstance(row.value, (ast.List, ast.Dict))}
+            for row in tops:
+                within = [part for part in ast.walk(row.value) if isinstance(part, (ast.List, ast.Dict))]
+                self.assertLessEqual(len(within), 1, (name, row.lineno))
+            for node in ast.walk(tree):
+                if isinstance(node, ast.Attribute) and isinstance(node.value, ast.Name):
+                    self.assertFalse(node.value.id in kept and node.attr not in ("get", "items"), (name, node.lineno))
+                if isinstance(node, ast.Subscript) and isinstance(node.value, ast.Name) and node.value.id in kept:
+                    self.assertIsInstance(node.ctx, ast.Load, (name, node.lineno))
 
 
 class Names(unittest.TestCase):

@@ -7,49 +7,12 @@ import unittest
 from figuresort.errors import BadOrder, SortError
 from figuresort.orders import after, back_of, is_order, put, rings, shows_order, told_order
 from helper import (
-    both_kinds, check_answer_is_own, check_list_as_tuple, frozen, lists_in, plain_order, row_samples, spoil, spread,
-    turned,
+    NO_ORDERS, TWENTY_ONE, all_orders, both_kinds, check_answer_is_own, check_list_as_tuple, deep_thing, frozen,
+    lists_in, order_samples, plain_order, row_samples, scattered_order, spoil, turned,
 )
 
 ROWS = row_samples()
-TWENTY_ONE = 10 ** 21 - 1
-
-
-def scattered_order(many, start=1):
-    """An order of so many things, the same in each run."""
-    return [at for _, at in sorted((key, at) for at, key in enumerate(spread(many, 10 ** 6, start)))]
-
-
-def all_orders(most):
-    return [list(order) for many in range(most + 1) for order in itertools.permutations(range(many))]
-
-
-def long_orders():
-    told = [scattered_order(many, start) for many in (7, 30, 120, 199, 200) for start in (1, 2)]
-    told += [list(range(200)), list(range(200))[::-1], list(range(1, 200)) + [0], [199] + list(range(199))]
-    told += [[at ^ 1 for at in range(200)], [0, 1, 2] + list(range(199, 2, -1))]
-    return told
-
-
-ORDERS = all_orders(5) + long_orders()
-
-NO_ORDERS = (
-    None, True, False, 0, 1, -1, 5, TWENTY_ONE, "", "0", "01", "order",
-    [1], [-1], [2, 0], [0, 0], [1, 1], [0, 2], [1, 2], [0, -1], [-1, 0], [-2, -1], [0, 1, 1], [0, 1, 3], [3, 1, 2],
-    [0, 1, 2, 3, 3], [1, 2, 3, 4, 5], [TWENTY_ONE], [0, TWENTY_ONE], [-TWENTY_ONE, 0], [2 ** 64, 0], [0, 2 ** 64 + 1],
-    [False], [True], [True, 0], [0, True], [False, 1], [1, False], [False, True], [True, False], [0, 1, True],
-    [None], [0, None], [None, 0], ["0"], [0, "1"], ["", ""], ["a"], [0, ""], [[]], [[0]], [0, [1]], [[0], [1]],
-    [()], [(0,)], [0, (1,)], [[0, 1]], [[], 0], [0, 1, []], [[[[]]]], [[1, 0], [0, 1]], list("01"),
-    list(range(1, 201)), list(range(199)) + [198], list(range(199)) + [200], list(range(199)) + [True], [0] * 200,
-    list(range(200)) + [None], list(range(-1, 199)), list(range(0, -200, -1)),
-)
-
-
-def deep_thing(kind, levels):
-    thing = kind()
-    for _ in range(levels):
-        thing = kind([thing])
-    return thing
+ORDERS = order_samples()
 
 
 class IsOrder(unittest.TestCase):
