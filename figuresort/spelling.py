@@ -7,7 +7,7 @@ TEXT_BASE = 27
 
 
 def common_measure(one, other):
-    """The greatest number that goes into both, one and other above nought."""
+    """The greatest number that goes into both, one from nought on and other above it."""
     greater, less = one, other
     while less > 0:
         greater, less = less, greater % less

@@ -2,6 +2,7 @@
 
 import copy
 import itertools
+import math
 
 from figuresort.spelling import spelled
 
@@ -201,3 +202,45 @@ def deep_thing(kind, levels):
     for _ in range(levels):
         thing = kind([thing])
     return thing
+
+
+def scattered_parts(many, start=1):
+    """So many fractions in lowest terms."""
+    told = []
+    for top, bottom in zip(spread(many, 400, start), spread(many, 60, start + 1)):
+        top, bottom = top - 200, bottom + 1
+        measure = math.gcd(top, bottom)
+        told.append((top // measure, bottom // measure))
+    return told
+
+
+def scattered_texts(many, longest, below, start=1):
+    """So many texts of no letters to longest, of the first few letters."""
+    told = []
+    for at, length in enumerate(spread(many, longest + 1, start)):
+        told.append("".join("abcdefghijklmnopqrstuvwxyz"[n] for n in spread(length, below, at + start)))
+    return told
+
+
+def key_samples():
+    """Tuples (kind, keys, base): ordinary ones and the edges that the document names."""
+    most = 10 ** 18 - 1
+    told = []
+    for base in (2, 10, 64):
+        told += [
+            ("number", [], base), ("number", [0], base), ("number", [5, 5, 5], base), ("number", [3, -1, 2, 0], base),
+            ("number", [most, -most, 0, most - 1, 1 - most], base), ("number", [most - n for n in range(30)], base),
+            ("number", [n - 50 for n in spread(200, 100)], base), ("number", list(range(200)), base),
+            ("number", list(range(200))[::-1], base), ("number", [n - most for n in spread(60, 2 * most, 3)], base),
+            ("part", [], base), ("part", [(1, 2)], base), ("part", [(0, 1), (-1, 2), (1, 60), (1, 59)], base),
+            ("part", [(most - 10, 60), (most - 10, 59), (-most, 1), (1, 7), (most - 10, 60)], base),
+            ("part", scattered_parts(40), base), ("part", [(n, 1) for n in spread(200, 50, 5)], base),
+            ("part", [(n // 2, 1) if n % 2 == 0 else (n, 2) for n in range(-40, 40)], base),
+        ]
+    told += [
+        ("text", [], 10), ("text", [""], 2), ("text", ["", "", "a"], 64),
+        ("text", ["z" * 20, "a" * 20, "z" * 19, ""], 3), ("text", scattered_texts(200, 3, 3), 10),
+        ("text", ["pear", "fig", "apple", "figs", "", "pear", "date", ""], 10),
+        ("text", scattered_texts(50, 20, 26, 4), 10), ("text", sorted(scattered_texts(60, 4, 4, 9)), 10),
+    ]
+    return told
